@@ -1,0 +1,1 @@
+"""Ladderhall: least answers of rising rules."""
