@@ -1,5 +1,6 @@
 """Charts: places, ways with rules between them, and worths that begin."""
 
+from ladderhall.errors import NoPlace
 from ladderhall.kinds import is_number_of, is_row_of, is_whole
 from ladderhall.ladders import is_below
 from ladderhall.rules import is_no_more, is_rising_rule, joined_rules
@@ -42,6 +43,11 @@ def is_begin(ladder, places, thing):
     if not isinstance(thing, tuple) or len(thing) != 2:
         return False
     return is_number_of(thing[0], places) and is_number_of(thing[1], len(ladder))
+
+
+def refuse_no_place(places, place):
+    if not is_number_of(place, places):
+        raise NoPlace("there is no such place")
 
 
 def is_answer(ladder, chart, thing):

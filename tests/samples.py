@@ -1,6 +1,7 @@
 """Ladders and things for the tests, made without the program's own functions."""
 
 import copy
+import functools
 import itertools
 
 
@@ -39,6 +40,13 @@ def chain(many):
     return table_of(many, max)
 
 
+def couples(one, other):
+    wide = len(other)
+    return table_of(
+        len(one) * wide, lambda x, y: one[x // wide][y // wide] * wide + other[x % wide][y % wide]
+    )
+
+
 def subsets(many):
     return table_of(2 ** many, lambda x, y: x | y)
 
@@ -67,6 +75,34 @@ NOT_PARTING = [THREE_ABREAST, PENTAGON, ODD_PENTAGON, FOURTEEN_ABREAST]
 LADDERS = PARTING + NOT_PARTING
 # The document lets bounds be overstepped somewhat where it tells no refusal.
 BEYOND = [chain(17), from_order(18, lambda x, y: (y + 1) % (x + 1) == 0 or y == 17)]
+
+# Ladders of which charts of three places have so few worths of places that all can be gone through.
+FEW_WORTHS = [
+    ONE, chain(2), chain(3), DOWNWARD_CHAIN, DIAMOND, ODD_DIAMOND, THREE_ABREAST, ODD_PENTAGON,
+    couples(chain(2), chain(3)),
+]
+MANY_WORTHS = [chain(16), subsets(4), ODD_CUBE, FOURTEEN_ABREAST, couples(DIAMOND, chain(3))] + BEYOND
+
+# Many places, the starts and goals of ways, the places of begins.
+SHAPES = [
+    (1, [], []),
+    (1, [], [0, 0]),
+    (1, [(0, 0)], []),
+    (1, [(0, 0), (0, 0)], [0]),
+    (2, [], [1]),
+    (2, [(0, 1)], [0]),
+    (2, [(0, 1), (0, 1), (1, 1)], [0, 0, 1]),
+    (2, [(1, 0), (0, 1)], [1]),
+    (3, [(0, 1), (1, 2), (2, 0)], [0]),
+    (3, [(2, 1), (1, 0), (2, 2)], [2, 1, 2]),
+    (3, [(0, 2), (1, 2), (0, 2), (2, 1)], [0, 1]),
+    (3, [(0, 0), (0, 1), (1, 1), (1, 0), (2, 0)], []),
+]
+GREAT_SHAPES = [
+    (8, [(x, (3 * x + 1) % 8) for x in range(8)], [0, 5]),
+    (8, [(x * x % 8, (x + 5 * (x // 8)) % 8) for x in range(60)], [x % 8 for x in range(60)]),
+    (9, [(8 - x % 9, x * x * x % 9) for x in range(61)], [x * x % 9 for x in range(61)]),
+]
 
 
 def tables_either_way(many):
@@ -100,6 +136,139 @@ def is_order(many, upward):
 
 def all_rules(ladder):
     return itertools.product(range(len(ladder)), repeat=len(ladder))
+
+
+def is_rising(ladder, rule):
+    couples = itertools.product(range(len(ladder)), repeat=2)
+    return all(leq(ladder, rule[x], rule[y]) for x, y in couples if leq(ladder, x, y))
+
+
+def is_spreading(ladder, rule):
+    couples = itertools.product(range(len(ladder)), repeat=2)
+    return all(rule[ladder[x][y]] == ladder[rule[x]][rule[y]] for x, y in couples)
+
+
+def rising_rules(ladder):
+    return [rule for rule in all_rules(ladder) if is_rising(ladder, rule)]
+
+
+def spreading_rules(ladder):
+    return [rule for rule in all_rules(ladder) if is_spreading(ladder, rule)]
+
+
+def odd_tables(ladder):
+    """Some tables of worths of a ladder of any size, few of which rise."""
+    many = len(ladder)
+    for factor, more in itertools.product(range(5), range(3)):
+        yield tuple((factor * x * x + more * x + more) % many for x in range(many))
+        yield tuple((factor * x + more) // 2 % many for x in range(many))
+
+
+def raised_to_rise(ladder, table):
+    """The least rule that rises and is nowhere lower than the table."""
+    below = [[y for y in range(len(ladder)) if leq(ladder, y, x)] for x in range(len(ladder))]
+    return tuple(functools.reduce(lambda x, y: ladder[x][y], [table[y] for y in part]) for part in below)
+
+
+@functools.cache
+def rules_of(ladder):
+    """Rules that rise, all of them of up to five worths; those of a greater ladder are some."""
+    if len(ladder) <= 5:
+        return rising_rules(ladder)
+    steady = [(worth,) * len(ladder) for worth in range(len(ladder))]
+    return sorted({*ladder, *steady, *[raised_to_rise(ladder, table) for table in odd_tables(ladder)]})
+
+
+@functools.cache
+def spreading_of(ladder):
+    return [rule for rule in rules_of(ladder) if is_spreading(ladder, rule)]
+
+
+def charts_over(ladder, rules, shapes, turns):
+    """Charts of all these shapes, so many of each, with rules and worths as their turn comes."""
+    for turn, (places, between, begun) in itertools.product(range(turns), shapes):
+        def choose(number, those):
+            return those[(7919 * turn + 104729 * number + 31 * places + len(between)) % len(those)]
+        ways = tuple((start, goal, choose(number, rules)) for number, (start, goal) in enumerate(between))
+        begins = tuple((place, choose(number, range(len(ladder)))) for number, place in enumerate(begun))
+        yield (places, ways, begins)
+
+
+def small_charts(turns=6):
+    """Couples of a ladder and a chart, with rules that rise, small enough for a search."""
+    for ladder in FEW_WORTHS:
+        for chart in charts_over(ladder, rules_of(ladder), SHAPES, turns):
+            yield ladder, chart
+
+
+def spreading_charts(turns=6):
+    for ladder in FEW_WORTHS:
+        for chart in charts_over(ladder, spreading_of(ladder), SHAPES, turns):
+            yield ladder, chart
+
+
+def great_charts(turns=2):
+    for ladder in MANY_WORTHS:
+        for chart in charts_over(ladder, rules_of(ladder), SHAPES + GREAT_SHAPES, turns):
+            yield ladder, chart
+
+
+def great_spreading_charts(turns=2):
+    for ladder in MANY_WORTHS:
+        for chart in charts_over(ladder, spreading_of(ladder), SHAPES + GREAT_SHAPES, turns):
+            yield ladder, chart
+
+
+def all_worths(ladder, chart):
+    return itertools.product(range(len(ladder)), repeat=chart[0])
+
+
+def are_leq(ladder, one, other):
+    return all(leq(ladder, x, y) for x, y in zip(one, other))
+
+
+def steps_of(chart):
+    begins = [("begin", number) for number in range(len(chart[2]))]
+    return begins + [("way", number) for number in range(len(chart[1]))]
+
+
+def behind(ladder, chart, worths, step):
+    """The worths behind one step."""
+    name, number = step
+    new = list(worths)
+    if name == "begin":
+        place, worth = chart[2][number]
+        new[place] = ladder[new[place]][worth]
+    else:
+        start, goal, rule = chart[1][number]
+        new[goal] = ladder[new[goal]][rule[new[start]]]
+    return tuple(new)
+
+
+def lowest_told(ladder, chart):
+    return (ladder.index(tuple(range(len(ladder)))),) * chart[0]
+
+
+def least_found(ladder, chart):
+    """The least answer, by a search over all worths of places."""
+    answers = [worths for worths in all_worths(ladder, chart) if is_answer_told(ladder, chart, worths)]
+    return next(one for one in answers if all(are_leq(ladder, one, other) for other in answers))
+
+
+def least_risen(ladder, chart):
+    """The least answer, by going up while anything is short."""
+    worths = lowest_told(ladder, chart)
+    while not is_answer_told(ladder, chart, worths):
+        for step in reversed(steps_of(chart)):
+            worths = behind(ladder, chart, worths, step)
+    return worths
+
+
+def is_answer_told(ladder, chart, worths):
+    places, ways, begins = chart
+    fits = [leq(ladder, worth, worths[place]) for place, worth in begins]
+    fits += [leq(ladder, rule[worths[start]], worths[goal]) for start, goal, rule in ways]
+    return all(fits)
 
 
 def least_among(ladder, worths):

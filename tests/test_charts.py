@@ -3,7 +3,8 @@ import unittest
 
 from ladderhall.charts import is_answer, is_chart, is_no_less, joined_answers
 from tests.samples import (
-    BEYOND, DIAMOND, DOWNWARD_CHAIN, LADDERS, ODD_DIAMOND, ONE, PENTAGON, any_things, chain, copied, leq, same,
+    BEYOND, DIAMOND, DOWNWARD_CHAIN, LADDERS, ODD_DIAMOND, ONE, PENTAGON, any_things, chain, copied, is_answer_told,
+    leq, same,
 )
 
 THREE = chain(3)
@@ -25,13 +26,6 @@ def charts_of(ladder):
         (3, ((2, 0, joined_last), (0, 0, plain)), ((1, 0), (1, last))),
         (3, ((0, 2, all_to_last), (0, 2, all_to_last)), ((2, 0),)),
     ]
-
-
-def is_answer_told(ladder, chart, worths):
-    places, ways, begins = chart
-    fits = [leq(ladder, worth, worths[place]) for place, worth in begins]
-    fits += [leq(ladder, rule[worths[start]], worths[goal]) for start, goal, rule in ways]
-    return all(fits)
 
 
 class IsChartTest(unittest.TestCase):

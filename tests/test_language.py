@@ -64,6 +64,23 @@ def drawn_from(path):
     return {node.module.rpartition(".")[2] for node in nodes_of(path, ast.ImportFrom)}
 
 
+def values_of_objects():
+    stored = [node for path in FILES for node in nodes_of(path, ast.Attribute) if isinstance(node.ctx, ast.Store)]
+    return {node.attr for node in stored}
+
+
+def calls_of(path, names):
+    """The calls of these names of Python's own, each with the node in which it stands."""
+    for outer in nodes_of(path, ast.AST):
+        for node in ast.iter_child_nodes(outer):
+            if isinstance(node, ast.Call) and isinstance(node.func, ast.Name) and node.func.id in names:
+                yield node, outer
+
+
+def is_call_of(node, names):
+    return isinstance(node, ast.Call) and isinstance(node.func, ast.Name) and node.func.id in names
+
+
 class LanguageTest(unittest.TestCase):
     def check_each(self, check):
         self.assertIn("ladders.py", [path.name for path in FILES])
@@ -141,6 +158,35 @@ class LanguageTest(unittest.TestCase):
             for node in nodes_of(path, ast.Call):
                 if isinstance(node.func, ast.Attribute):
                     self.assertIn(node.func.attr, METHODS | own_methods())
+        self.check_each(check)
+
+    def test_values_of_objects(self):
+        own = {name for kind in (str, int, list, tuple, dict, set, bytes) for name in dir(kind)}
+        self.assertEqual(values_of_objects() & own_methods(), set())
+        self.assertEqual(values_of_objects() & own, set())
+        self.assertEqual(own_methods() & own - DUNDERS, set())
+
+    def test_no_annotations(self):
+        def check(path):
+            for node in nodes_of(path, ast.arg):
+                self.assertIsNone(node.annotation)
+            for node in nodes_of(path, ast.FunctionDef):
+                self.assertIsNone(node.returns)
+        self.check_each(check)
+
+    def test_sets_are_not_kept(self):
+        def check(path):
+            for node, outer in calls_of(path, ("set", "frozenset")):
+                self.assertTrue(is_call_of(outer, ("sorted", "len")) or isinstance(outer, ast.Compare), ast.dump(outer))
+        self.check_each(check)
+
+    def test_walked_at_once(self):
+        takers = ("list", "tuple", "dict", "sorted", "sum", "any", "all", "enumerate", "zip", "min", "max")
+        def check(path):
+            for node, outer in calls_of(path, ("zip", "enumerate", "reversed", "range")):
+                walked = isinstance(outer, (ast.For, ast.comprehension)) and outer.iter is node
+                taken = is_call_of(outer, takers) and outer.args[0] is node
+                self.assertTrue(walked or taken, ast.dump(outer))
         self.check_each(check)
 
     def test_imports(self):

@@ -8,29 +8,12 @@ from ladderhall.rules import (
 )
 from tests.samples import (
     BEYOND, DIAMOND, DOWNWARD_CHAIN, LADDERS, ODD_DIAMOND, ODD_PENTAGON, ONE, PENTAGON, THREE_ABREAST, all_orders,
-    all_rules, any_things, chain, copied, least_among, leq, same, subsets,
+    all_rules, any_things, chain, copied, is_rising, is_spreading, least_among, leq, odd_tables, rising_rules, same,
+    spreading_rules, subsets,
 )
 
 SMALL = [ladder for many in (1, 2, 3, 4) for ladder in sorted(all_orders(many))]
 SOME_SMALL = [ONE, chain(2), chain(3), chain(4), DOWNWARD_CHAIN, DIAMOND, ODD_DIAMOND]
-
-
-def is_rising(ladder, rule):
-    couples = itertools.product(range(len(ladder)), repeat=2)
-    return all(leq(ladder, rule[x], rule[y]) for x, y in couples if leq(ladder, x, y))
-
-
-def is_spreading(ladder, rule):
-    couples = itertools.product(range(len(ladder)), repeat=2)
-    return all(rule[ladder[x][y]] == ladder[rule[x]][rule[y]] for x, y in couples)
-
-
-def rising_rules(ladder):
-    return [rule for rule in all_rules(ladder) if is_rising(ladder, rule)]
-
-
-def spreading_rules(ladder):
-    return [rule for rule in all_rules(ladder) if is_spreading(ladder, rule)]
 
 
 def least_fixed(ladder, rule):
@@ -40,14 +23,6 @@ def least_fixed(ladder, rule):
 def least_kept(ladder, rule, worth):
     kept = [x for x in range(len(ladder)) if leq(ladder, worth, x) and leq(ladder, rule[x], x)]
     return least_among(ladder, kept)
-
-
-def odd_tables(ladder):
-    """Some tables of worths of a ladder of any size, few of which rise."""
-    many = len(ladder)
-    for factor, more in itertools.product(range(5), range(3)):
-        yield tuple((factor * x * x + more * x + more) % many for x in range(many))
-        yield tuple((factor * x + more) // 2 % many for x in range(many))
 
 
 class IsRuleTest(unittest.TestCase):
