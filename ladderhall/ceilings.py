@@ -2,7 +2,8 @@
 
 from ladderhall.charts import is_answer, refuse_no_place
 from ladderhall.errors import NoRule
-from ladderhall.ladders import is_below, joined_all, turned
+from ladderhall.ladders import joined_all, turned
+from ladderhall.rules import led_below
 from ladderhall.solving import least
 
 
@@ -20,7 +21,7 @@ def back_rule(ladder, rule):
 
 
 def greatest_led_below(ladder, rule, worth):
-    led = [x for x in range(len(ladder)) if is_below(ladder, rule[x], worth)]
+    led = led_below(ladder, rule, worth)
     joined = joined_all(ladder, led)
     return joined if joined in led else None
 

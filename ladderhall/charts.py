@@ -13,10 +13,13 @@ MOST_BEGINS = 60
 def is_chart(ladder, thing):
     if not isinstance(thing, tuple) or len(thing) != 3:
         return False
-    places = thing[0]
-    if not is_whole(places) or not 1 <= places <= MOST_PLACES:
+    if not is_many_places(thing[0]):
         return False
-    return are_ways(ladder, places, thing[1]) and are_begins(ladder, places, thing[2])
+    return are_ways(ladder, thing[0], thing[1]) and are_begins(ladder, thing[0], thing[2])
+
+
+def is_many_places(thing):
+    return is_whole(thing) and 1 <= thing <= MOST_PLACES
 
 
 def are_ways(ladder, places, thing):
@@ -26,11 +29,13 @@ def are_ways(ladder, places, thing):
 
 
 def is_way(ladder, places, thing):
+    return goes_between(places, thing) and is_rising_rule(ladder, thing[2])
+
+
+def goes_between(places, thing):
     if not isinstance(thing, tuple) or len(thing) != 3:
         return False
-    if not is_number_of(thing[0], places) or not is_number_of(thing[1], places):
-        return False
-    return is_rising_rule(ladder, thing[2])
+    return is_number_of(thing[0], places) and is_number_of(thing[1], places)
 
 
 def are_begins(ladder, places, thing):

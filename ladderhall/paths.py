@@ -94,8 +94,12 @@ def goals_from(chart, places):
 
 def places_reached(chart, place):
     refuse_no_place(chart[0], place)
-    reached = [place]
-    ahead = []
+    return all_reached(chart, [place])
+
+
+def all_reached(chart, places):
+    reached = places
+    ahead = None
     while reached != ahead:
         ahead = reached
         reached = sorted(set(ahead + goals_from(chart, ahead)))

@@ -18,12 +18,20 @@ def rises(ladder, rule):
 
 
 def spreads(ladder, rule):
+    return leads_joins_to_joins(ladder, ladder, rule)
+
+
+def leads_joins_to_joins(ladder, other, table):
     many = len(ladder)
     for x in range(many):
         for y in range(many):
-            if rule[ladder[x][y]] != ladder[rule[x]][rule[y]]:
+            if table[ladder[x][y]] != other[table[x]][table[y]]:
                 return False
     return True
+
+
+def led_below(ladder, table, worth):
+    return [x for x, led in enumerate(table) if is_below(ladder, led, worth)]
 
 
 def is_no_more(ladder, one, other):

@@ -167,7 +167,7 @@ def odd_tables(ladder):
 def raised_to_rise(ladder, table):
     """The least rule that rises and is nowhere lower than the table."""
     below = [[y for y in range(len(ladder)) if leq(ladder, y, x)] for x in range(len(ladder))]
-    return tuple(functools.reduce(lambda x, y: ladder[x][y], [table[y] for y in part]) for part in below)
+    return tuple(joined_told(ladder, [table[y] for y in part]) for part in below)
 
 
 @functools.cache
@@ -269,6 +269,10 @@ def is_answer_told(ladder, chart, worths):
     fits = [leq(ladder, worth, worths[place]) for place, worth in begins]
     fits += [leq(ladder, rule[worths[start]], worths[goal]) for start, goal, rule in ways]
     return all(fits)
+
+
+def joined_told(ladder, worths):
+    return functools.reduce(lambda x, y: ladder[x][y], worths)
 
 
 def least_among(ladder, worths):

@@ -189,6 +189,26 @@ class LanguageTest(unittest.TestCase):
                 self.assertTrue(walked or taken, ast.dump(outer))
         self.check_each(check)
 
+    def test_errors_are_made_on_the_spot(self):
+        refusals = defined_names(PACKAGE / "errors.py")
+        def check(path):
+            for node in nodes_of(path, ast.Raise):
+                self.assertTrue(is_call_of(node.exc, refusals), ast.dump(node))
+            for node in nodes_of(path, ast.ExceptHandler):
+                self.assertIn(getattr(node.type, "id", None), refusals + ["KeyError", "ZeroDivisionError"])
+        self.check_each(check)
+
+    def test_numbers_and_texts(self):
+        def check(path):
+            for node in nodes_of(path, ast.Constant):
+                self.assertNotIn("%", str(node.value))
+            for node in nodes_of(path, ast.BinOp):
+                self.assertNotIsInstance(node.op, ast.Pow)
+            for node in nodes_of(path, ast.FormattedValue):
+                self.assertIsInstance(node.value, ast.Name)
+                self.assertIsNone(node.format_spec)
+        self.check_each(check)
+
     def test_imports(self):
         def check(path):
             self.assertEqual(nodes_of(path, ast.Import), [])

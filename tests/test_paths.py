@@ -1,4 +1,3 @@
-import functools
 import itertools
 import unittest
 
@@ -7,7 +6,7 @@ from ladderhall.paths import brought, by_paths, goals_of, path_to, places_reache
 from ladderhall.solving import least
 from tests.samples import (
     DIAMOND, DOWNWARD_CHAIN, ODD_DIAMOND, ONE, are_leq, chain, copied, great_charts, great_spreading_charts,
-    least_found, lowest_told, same, small_charts, spreading_charts,
+    joined_told, least_found, lowest_told, same, small_charts, spreading_charts,
 )
 
 THREE = chain(3)
@@ -244,8 +243,7 @@ class ByPathsTest(unittest.TestCase):
         for ladder, chart in itertools.chain(small_charts(), great_charts(turns=1)):
             ends = sorted(fewest_ways(ladder, chart))
             wanted = tuple(
-                functools.reduce(lambda x, y: ladder[x][y], [worth for end, worth in ends if end == place])
-                for place in range(chart[0])
+                joined_told(ladder, [worth for end, worth in ends if end == place]) for place in range(chart[0])
             )
             self.assertTrue(same(by_paths(ladder, chart), wanted))
 
